@@ -1,0 +1,1 @@
+"""Dustwithin: closed sets of numbers told by their own digits."""

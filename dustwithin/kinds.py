@@ -1,0 +1,24 @@
+"""What the smallest things are: whole numbers, bases, names, rising rows."""
+
+
+def is_whole(thing):
+    """Whether anything is a whole number: an int that is no truth."""
+    return isinstance(thing, int) and not isinstance(thing, bool)
+
+
+def is_base(thing):
+    """Whether anything is a base."""
+    return is_whole(thing) and 2 <= thing <= 10
+
+
+def is_name(thing):
+    """Whether anything is a text of one to eight small letters."""
+    if not isinstance(thing, str) or not 1 <= len(thing) <= 8:
+        return False
+    # not islower: that takes letters beyond a to z, too
+    return all(["a" <= sign <= "z" for sign in thing])
+
+
+def is_rising(row):
+    """Whether the parts of a row, which can be compared, rise, each once."""
+    return all([one < other for one, other in zip(row, row[1:])])

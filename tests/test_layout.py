@@ -1,0 +1,71 @@
+import ast
+import importlib
+import inspect
+import pathlib
+import unittest
+
+import dustwithin
+
+FOLDER = pathlib.Path(dustwithin.__file__).parent
+# the names that have landed: each with its parameters, None for an error
+INTERFACE = {
+    "errors": {
+        "DustError": None, "TooMany": ["most"], "Full": ["most"], "Held": ["name"], "Ring": ["name"],
+        "NoText": ["place"], "NoBase": None, "NoWay": None, "NoStretch": None, "NoName": None,
+        "NoForm": None, "NoMark": None, "NoRow": None,
+    },
+    "fractions": {
+        "is_fraction": ["thing"], "writings_of": ["base", "fraction"], "fraction_of": ["base", "stem", "ring"],
+    },
+    "books": {
+        "is_book": ["thing"], "live": ["book"], "point_by": ["book", "name", "stem", "ring"],
+        "way_to": ["book", "name", "fraction"],
+    },
+}
+
+
+def files():
+    return [path for path in FOLDER.rglob("*") if "__pycache__" not in path.parts]
+
+
+class TestLayout(unittest.TestCase):
+    def test_interface_is_defined_where_it_is_listed(self):
+        for module, names in INTERFACE.items():
+            full = f"dustwithin.{module}"
+            for name, parameters in names.items():
+                with self.subTest(module=module, name=name):
+                    found = getattr(importlib.import_module(full), name)
+                    self.assertEqual(found.__module__, full)
+                    if parameters is not None:
+                        self.assertEqual(list(inspect.signature(found).parameters), parameters)
+
+    def test_the_package_holds_only_files_of_python(self):
+        for path in files():
+            self.assertTrue(path.is_file() and path.suffix == ".py", path)
+
+    def test_sizes_and_signs(self):
+        for path in files():
+            text = path.read_text(encoding="utf-8")
+            self.assertTrue(all(sign == "\n" or " " <= sign <= "~" for sign in text), path)
+            lines = text.split("\n")
+            self.assertLess(len(lines), 400, path)
+            self.assertLessEqual(max(len(line) for line in lines), 120, path)
+
+    def test_functions_have_at_most_forty_lines(self):
+        for path in files():
+            for node in ast.walk(ast.parse(path.read_text(encoding="utf-8"))):
+                if isinstance(node, ast.FunctionDef):
+                    self.assertLessEqual(node.end_lineno - node.lineno + 1, 40, (path, node.name))
+
+    def test_imports_are_of_the_package_or_of_what_the_rules_name(self):
+        outside = ("heapq", "math", "itertools", "collections", "__future__")
+        for path in files():
+            for node in ast.walk(ast.parse(path.read_text(encoding="utf-8"))):
+                self.assertNotIsInstance(node, ast.Import, path)
+                if isinstance(node, ast.ImportFrom):
+                    inside = node.module.startswith("dustwithin.")
+                    self.assertTrue(inside or node.module in outside, (path, node.module))
+
+
+if __name__ == "__main__":
+    unittest.main()
