@@ -1,17 +1,11 @@
 import copy
 import itertools
-import math
 import unittest
 
 from dustwithin.fractions import fraction_of, is_fraction, writings_of
-from tests.things import anything
+from tests.things import anything, fractions_to
 
 BASES = range(2, 11)
-
-
-def fractions_to(most):
-    """All fractions with a lower number of at most most."""
-    return [(n, d) for d in range(1, most + 1) for n in range(d + 1) if math.gcd(n, d) == 1]
 
 
 def told_in_one_way(stem, ring):

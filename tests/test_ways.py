@@ -6,15 +6,11 @@ import unittest
 from dustwithin.books import live, point_by, way_to
 from dustwithin.errors import DustError, NoWay
 from dustwithin.fractions import fraction_of, is_fraction, writings_of
-from tests.things import anything
+from tests.things import anything, fractions_to
 
 DUST = (4, {"x": ((1, "x"), (2, "y")), "y": ((0, "x"),)})
 # 0, 1/2, 1/4, 1/8 .. of u, 0 alone of v
 HALVES = (2, {"u": ((0, "u"), (1, "v")), "v": ((0, "v"),)})
-
-
-def fractions_to(most):
-    return [(n, d) for d in range(1, most + 1) for n in range(d + 1) if math.gcd(n, d) == 1]
 
 
 def small_books():

@@ -1,4 +1,11 @@
-"""Things of every kind that "of anything" can bring, for the tests."""
+"""What several tests look at: fractions, and things of every kind that "of anything" can bring."""
+
+import math
+
+
+def fractions_to(most):
+    """All fractions with a lower number of at most most."""
+    return [(n, d) for d in range(1, most + 1) for n in range(d + 1) if math.gcd(n, d) == 1]
 
 
 def nested(depth, wrap):
