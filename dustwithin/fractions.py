@@ -32,7 +32,8 @@ def writings_of(base, fraction):
 def fraction_of(base, stem, ring):
     """The fraction that the digits of stem, then ring's again and again, write."""
     ahead, ahead_size = _number_of(base, stem)
-    around, around_size = _number_of(base, ring)
+    # a ring of many rounds would make numbers of as many figures
+    around, around_size = _number_of(base, _once(ring))
     # a ring of k digits is worth its number out of base ** k - 1
     rounds = around_size - 1
     return _in_lowest_terms(ahead * rounds + around, ahead_size * rounds)
@@ -40,17 +41,39 @@ def fraction_of(base, stem, ring):
 
 def _divided(base, top, bottom):
     """The digits of top / bottom, less than 1, by division: (stem, ring)."""
-    places = {}
-    digits = []
+    # rests aren't kept: a told fraction's may be many and long
+    stem = []
     rest = top
-    while rest not in places:
-        places[rest] = len(digits)
+    for _ in range(_stem_size(base, bottom)):
         digit, rest = divmod(rest * base, bottom)
-        digits.append(digit)
-    # like rests give like digits from there on, unlike rests unlike ones:
-    # so neither stem nor ring could be shorter
-    back = places[rest]
-    return tuple(digits[:back]), tuple(digits[back:])
+        stem.append(digit)
+    start = rest
+    ring = []
+    while not ring or rest != start:
+        digit, rest = divmod(rest * base, bottom)
+        ring.append(digit)
+    return tuple(stem), tuple(ring)
+
+
+def _stem_size(base, bottom):
+    """How many digits come ahead of the ring: as many as take from bottom all that it shares with base."""
+    size = 0
+    left = bottom
+    common = gcd(left, base)
+    while common > 1:
+        left = left // common
+        size += 1
+        common = gcd(left, base)
+    return size
+
+
+def _once(ring):
+    """The shortest part that, again and again, is ring."""
+    sizes = [size for size in range(1, len(ring)) if len(ring) % size == 0]
+    for size in sizes:
+        if ring[:size] * (len(ring) // size) == ring:
+            return ring[:size]
+    return ring
 
 
 def _number_of(base, digits):

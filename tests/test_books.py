@@ -3,9 +3,7 @@ import itertools
 import unittest
 
 from dustwithin.books import is_book, live
-from tests.things import anything
-
-DUST = (4, {"x": ((1, "x"), (2, "y")), "y": ((0, "x"),)})
+from tests.things import DUST, anything
 
 
 def six_names():

@@ -171,6 +171,12 @@ class TestWritingsOf(unittest.TestCase):
         self.assertEqual((stem, len(ring)), ((), 982))
         self.assertEqual(fraction_of(10, stem, ring), (1, 983))
 
+    def test_more_than_a_thousand_digits(self):
+        stem = tuple(at * at % 11 % 10 for at in range(3000)) + (0,)
+        ring = tuple(at * at % 7 for at in range(9000)) + (1,)
+        fraction = fraction_of(10, stem, ring)
+        self.assertEqual(writings_of(10, fraction), [(stem, ring)])
+
 
 class TestFractionOf(unittest.TestCase):
     def test_by_hand(self):
@@ -211,6 +217,11 @@ class TestFractionOf(unittest.TestCase):
         fraction = fraction_of(2, (), (1,))
         self.assertIs(type(fraction), tuple)
         self.assertEqual([type(part) for part in fraction], [int, int])
+
+    def test_a_ring_of_very_many_rounds(self):
+        self.assertEqual(fraction_of(10, (), (1, 4, 2, 8, 5, 7) * 100000), (1, 7))
+        self.assertEqual(fraction_of(10, [5], [1, 4, 2, 8, 5, 7] * 100000), (18, 35))
+        self.assertEqual(fraction_of(2, (), (1,) * 600000), (1, 1))
 
     def test_of_more_than_a_thousand_digits(self):
         self.assertEqual(fraction_of(10, (3,) * 2500, (3,) * 3000), (1, 3))

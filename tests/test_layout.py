@@ -7,7 +7,7 @@ import unittest
 import dustwithin
 
 FOLDER = pathlib.Path(dustwithin.__file__).parent
-# the names that have landed: each with its parameters, None for an error
+# the names that have landed: each with its parameters (set is a builtin's name: here it is value), None for an error
 INTERFACE = {
     "errors": {
         "DustError": None, "TooMany": ["most"], "Full": ["most"], "Held": ["name"], "Ring": ["name"],
@@ -20,6 +20,22 @@ INTERFACE = {
     "books": {
         "is_book": ["thing"], "live": ["book"], "point_by": ["book", "name", "stem", "ring"],
         "way_to": ["book", "name", "fraction"],
+    },
+    "sets": {
+        "is_set": ["thing"], "set_of": ["book", "name"], "book_of": ["value"], "cell_at": ["value", "digits"],
+        "parted": ["one", "other"],
+    },
+    "points": {
+        "is_in": ["value", "fraction"], "least": ["value"], "greatest": ["value"], "under": ["value", "fraction"],
+        "over": ["value", "fraction"],
+    },
+    "joins": {
+        "joined": ["one", "other"], "met": ["one", "other"], "turned": ["value"], "stretch": ["base", "low", "high"],
+        "put": ["base", "sets"], "is_part": ["one", "other"], "beyond": ["one", "other"],
+    },
+    "mixes": {
+        "mixed": ["sets", "weights", "shift", "divisor"],
+        "shown": ["sets", "weights", "shift", "divisor", "fraction"],
     },
 }
 

@@ -6,18 +6,7 @@ import unittest
 from dustwithin.books import live, point_by, way_to
 from dustwithin.errors import DustError, NoWay
 from dustwithin.fractions import fraction_of, is_fraction, writings_of
-from tests.things import anything, fractions_to
-
-DUST = (4, {"x": ((1, "x"), (2, "y")), "y": ((0, "x"),)})
-# 0, 1/2, 1/4, 1/8 .. of u, 0 alone of v
-HALVES = (2, {"u": ((0, "u"), (1, "v")), "v": ((0, "v"),)})
-
-
-def small_books():
-    """All books to base 2 of the names a and b."""
-    pairs = ((0, "a"), (0, "b"), (1, "a"), (1, "b"))
-    rows = [row for size in range(5) for row in itertools.combinations(pairs, size)]
-    return [(2, {"a": one, "b": other}) for one in rows for other in rows]
+from tests.things import DUST, HALVES, anything, fractions_to, small_books
 
 
 def points_among(book, d):

@@ -1,0 +1,76 @@
+import copy
+import unittest
+
+from dustwithin.fractions import is_fraction
+from dustwithin.joins import beyond, is_part, joined, met, put, stretch, turned
+from dustwithin.mixes import mixed, shown
+from dustwithin.points import greatest, is_in, least, over, under
+from dustwithin.sets import book_of, cell_at, is_set, parted, set_of
+from tests.things import DUST, HALVES, empty, some_sets, whole
+
+HALF = (1, 2)
+
+
+def calls():
+    """Each function of sets, with what it may be handed, and whether what it tells is of the right kind."""
+    found = []
+    for base in (2, 3, 4):
+        values = some_sets(5, bases=(base,)) + [empty(base), whole(base)]
+        for one, other in zip(values, values[1:]):
+            found += [
+                (is_set, (one,), is_truth), (book_of, (one,), is_told_book), (cell_at, (one, (0, 1)), is_told_set),
+                (parted, (one, other), is_place), (is_in, (one, HALF), is_truth), (least, (one,), is_point),
+                (greatest, (one,), is_point), (under, (one, HALF), is_point), (over, (one, HALF), is_point),
+                (joined, (one, other), is_told_set), (met, (one, other), is_told_set), (turned, (one,), is_told_set),
+                (stretch, (base, HALF, (2, 3)), is_told_set),
+                (put, (base, (one, other, one, other)[:base]), is_told_set),
+                (is_part, (one, other), is_truth), (beyond, (one, other), is_point),
+                (mixed, ((one, other), (1, -1), 0, 1), is_told_set),
+                (shown, ((one, other), (1, 1), 0, 2, HALF), are_points),
+            ]
+    return found + [(set_of, (DUST, "x"), is_told_set), (set_of, (HALVES, "v"), is_told_set)]
+
+
+def is_truth(told):
+    return told is True or told is False
+
+
+def is_point(told):
+    return told is None or is_fraction(told)
+
+
+def are_points(told):
+    return told is None or (type(told) is tuple and len(told) == 2 and all(is_fraction(one) for one in told))
+
+
+def is_place(told):
+    return told is None or (type(told) is tuple and is_fraction(told[0]) and type(told[1]) is int and told[1] in (0, 1))
+
+
+def is_told_set(told):
+    return is_set(told) and type(told) is tuple and type(told[1]) is tuple
+
+
+def is_told_book(told):
+    (base, rows), name = told
+    return type(told) is tuple and type(base) is int and type(rows) is dict and type(name) is str
+
+
+class TestHandedIn(unittest.TestCase):
+    def test_what_is_handed_in_stays_and_like_things_are_told_of_like_ones(self):
+        for function, things, right in calls():
+            with self.subTest(function=function.__name__, things=things):
+                ahead = copy.deepcopy(things)
+                told = function(*things)
+                self.assertEqual(repr(things), repr(ahead))
+                self.assertTrue(right(told), told)
+                self.assertEqual(function(*things), told)
+                self.assertEqual(repr(things), repr(ahead))
+
+    def test_every_function_of_sets_is_looked_at(self):
+        names = {function.__name__ for function, _, _ in calls()}
+        self.assertEqual(len(names), 19)
+
+
+if __name__ == "__main__":
+    unittest.main()
