@@ -36,7 +36,13 @@ def fraction_of(base, stem, ring):
     around, around_size = _number_of(base, _once(ring))
     # a ring of k digits is worth its number out of base ** k - 1
     rounds = around_size - 1
-    return _in_lowest_terms(ahead * rounds + around, ahead_size * rounds)
+    return in_lowest_terms(ahead * rounds + around, ahead_size * rounds)
+
+
+def in_lowest_terms(top, bottom):
+    """A number top / bottom, bottom above 0, as (n, d) in lowest terms."""
+    common = gcd(top, bottom)
+    return top // common, bottom // common
 
 
 def _divided(base, top, bottom):
@@ -83,8 +89,3 @@ def _number_of(base, digits):
         number = number * base + digit
         size = size * base
     return number, size
-
-
-def _in_lowest_terms(top, bottom):
-    common = gcd(top, bottom)
-    return top // common, bottom // common

@@ -26,6 +26,11 @@ def set_of(book, name):
     base, rows = book
     numbers = {own: at for at, own in enumerate(rows)}
     pairs = [[(digit, numbers[own]) for digit, own in row] for row in rows.values()]
+    return set_by(base, pairs, numbers[name])
+
+
+def set_by(base, pairs, first):
+    """The set that the name with number first tells, by the pairs (digit, number) of each name."""
     steps = _steps(base, pairs)
 
     # what some names tell together has the cells of each of them, together
@@ -33,7 +38,7 @@ def set_of(book, name):
         found = [sorted({number for own in lot for number in steps[own][digit]}) for digit in range(base)]
         return [tuple(part) if part else None for part in found]
 
-    return value_of(base, grown((numbers[name],), cells))
+    return value_of(base, grown((first,), cells))
 
 
 def book_of(value):

@@ -31,12 +31,23 @@ def grown(first, cells, most=None):
     return table
 
 
-def lasting(leads):
-    """For each number whether an endless way goes on from it, by lists of those to which each leads."""
+def leads_of(rows):
+    """For each row the numbers of the cells to which it leads, by digits, as often as it does."""
+    return [[number for number in row if number is not None] for row in rows]
+
+
+def back_of(leads):
+    """For each number those that lead to it, as often as they do."""
     before = [[] for _ in leads]
     for at, ahead in enumerate(leads):
         for number in ahead:
             before[number].append(at)
+    return before
+
+
+def lasting(leads):
+    """For each number whether an endless way goes on from it, by lists of those to which each leads."""
+    before = back_of(leads)
     counts = [len(ahead) for ahead in leads]
     ended = [at for at, count in enumerate(counts) if count == 0]
     while ended:
@@ -60,7 +71,7 @@ def numbered(base, rows, at):
 
 def value_of(base, table):
     """The set that a table's first row tells. Rows may be alike, or empty, but their ends agree."""
-    goes = lasting([[number for number in row if number is not None] for row in table])
+    goes = lasting(leads_of(table))
     if not goes or not goes[0]:
         return base, ()
     rows = [[number if number is not None and goes[number] else None for number in row] for row in table]

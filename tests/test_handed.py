@@ -2,7 +2,10 @@ import copy
 import unittest
 
 from dustwithin.fractions import is_fraction
+from dustwithin.gaps import Gaps, how_many_gaps, longer
 from dustwithin.joins import beyond, is_part, joined, met, put, stretch, turned
+from dustwithin.lengths import cells_at, full_at, length
+from dustwithin.limits import how_many, is_single, kernel, limits, rank, single_of
 from dustwithin.mixes import mixed, shown
 from dustwithin.points import greatest, is_in, least, over, under
 from dustwithin.sets import book_of, cell_at, is_set, parted, set_of
@@ -27,8 +30,37 @@ def calls():
                 (is_part, (one, other), is_truth), (beyond, (one, other), is_point),
                 (mixed, ((one, other), (1, -1), 0, 1), is_told_set),
                 (shown, ((one, other), (1, 1), 0, 2, HALF), are_points),
+                (length, (one,), is_fraction), (cells_at, (one, 5), is_number), (full_at, (one,), are_digits),
+                (how_many_gaps, (one,), is_count), (longer, (one, (1, 20)), are_gaps), (told_by_gaps, (one,), are_gaps),
+                (limits, (one,), is_told_set), (kernel, (one,), is_told_set), (rank, (one,), is_number),
+                (how_many, (one,), is_count), (is_single, (one, HALF), is_truth), (single_of, (one,), is_point),
             ]
     return found + [(set_of, (DUST, "x"), is_told_set), (set_of, (HALVES, "v"), is_told_set)]
+
+
+def told_by_gaps(value):
+    teller = Gaps(value)
+    gaps = [teller.more() for _ in range(5)]
+    # what is done to what was told turns nothing
+    teller.told().clear()
+    return teller.told() + [teller.more()] if None not in gaps else teller.told()
+
+
+def is_number(told):
+    return type(told) is int and told >= 0
+
+
+def is_count(told):
+    return told is None or is_number(told)
+
+
+def are_digits(told):
+    return told is None or (type(told) is tuple and all(is_number(digit) for digit in told))
+
+
+def are_gaps(told):
+    gaps = [gap for gap in told if gap is not None]
+    return type(told) is list and all(type(gap) is tuple and are_points(gap) for gap in gaps)
 
 
 def is_truth(told):
@@ -69,7 +101,7 @@ class TestHandedIn(unittest.TestCase):
 
     def test_every_function_of_sets_is_looked_at(self):
         names = {function.__name__ for function, _, _ in calls()}
-        self.assertEqual(len(names), 19)
+        self.assertEqual(len(names), 31)
 
 
 if __name__ == "__main__":

@@ -37,6 +37,16 @@ INTERFACE = {
         "mixed": ["sets", "weights", "shift", "divisor"],
         "shown": ["sets", "weights", "shift", "divisor", "fraction"],
     },
+    "lengths": {"length": ["value"], "cells_at": ["value", "depth"], "full_at": ["value"]},
+    "gaps": {"Gaps": ["value"], "how_many_gaps": ["value"], "longer": ["value", "fraction"]},
+    "limits": {
+        "limits": ["value"], "kernel": ["value"], "rank": ["value"], "how_many": ["value"],
+        "is_single": ["value", "fraction"], "single_of": ["value"],
+    },
+}
+# the methods of each class that have landed
+METHODS = {
+    "gaps": {"Gaps": {"more": [], "told": []}},
 }
 
 
@@ -54,6 +64,14 @@ class TestLayout(unittest.TestCase):
                     self.assertEqual(found.__module__, full)
                     if parameters is not None:
                         self.assertEqual(list(inspect.signature(found).parameters), parameters)
+
+    def test_methods_are_defined_in_their_classes(self):
+        for module, classes in METHODS.items():
+            for name, methods in classes.items():
+                own = vars(getattr(importlib.import_module(f"dustwithin.{module}"), name))
+                for method, parameters in methods.items():
+                    with self.subTest(module=module, name=name, method=method):
+                        self.assertEqual(list(inspect.signature(own[method]).parameters), ["self"] + parameters)
 
     def test_the_package_holds_only_files_of_python(self):
         for path in files():
