@@ -2,19 +2,12 @@
 
 from dustwithin.errors import NoWay
 from dustwithin.fractions import fraction_of, writings_of
-from dustwithin.kinds import is_base, is_name, is_rising, is_whole
+from dustwithin.kinds import has_named_rows, is_rising, is_whole
 
 
 def is_book(thing):
     """Whether anything is a book."""
-    if not isinstance(thing, tuple) or len(thing) != 2:
-        return False
-    base, rows = thing
-    if not is_base(base) or not isinstance(rows, dict) or not 1 <= len(rows) <= 6:
-        return False
-    if not all([is_name(name) for name in rows]):
-        return False
-    return all([_is_row(thing, row) for row in rows.values()])
+    return has_named_rows(thing) and all([_is_row(thing, row) for row in thing[1].values()])
 
 
 def live(book):

@@ -1,4 +1,4 @@
-"""What the smallest things are: whole numbers, bases, names, rising rows."""
+"""What the smallest things are: whole numbers, bases, names, rising rows, names with rows."""
 
 
 def is_whole(thing):
@@ -17,6 +17,16 @@ def is_name(thing):
         return False
     # not islower: that takes letters beyond a to z, too
     return all(["a" <= sign <= "z" for sign in thing])
+
+
+def has_named_rows(thing):
+    """Whether anything is a base and a dict from one to six names to whatever are to be their rows."""
+    if not isinstance(thing, tuple) or len(thing) != 2:
+        return False
+    base, rows = thing
+    if not is_base(base) or not isinstance(rows, dict) or not 1 <= len(rows) <= 6:
+        return False
+    return all([is_name(name) for name in rows])
 
 
 def is_rising(row):

@@ -4,8 +4,8 @@
 def solved(rows):
     """The numbers that weighted sums tell: their tops, over one bottom.
 
-    A row has whole weights, one for each number, and behind them what these come to. Of each number its own
-    weight outweighs the others in its row, so that nothing is ever divided by 0.
+    A row has whole weights, one for each number, and behind them what these come to. Handed in are such where each
+    number is more than the part of it that comes back by the others: then nothing is ever divided by 0.
     """
     left = rows
     bottom = 1

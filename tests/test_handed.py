@@ -1,6 +1,8 @@
 import copy
+import itertools
 import unittest
 
+from dustwithin.books import is_book
 from dustwithin.fractions import is_fraction
 from dustwithin.gaps import Gaps, how_many_gaps, longer
 from dustwithin.joins import beyond, is_part, joined, met, put, stretch, turned
@@ -9,13 +11,16 @@ from dustwithin.limits import how_many, is_single, kernel, limits, rank, single_
 from dustwithin.mixes import mixed, shown
 from dustwithin.points import greatest, is_in, least, over, under
 from dustwithin.sets import book_of, cell_at, is_set, parted, set_of
+from dustwithin.shares import at_most, is_shared, just_at, mean, spread
+from dustwithin.texts import read_book, read_fraction, read_set, show_book, show_fraction, show_set
 from tests.things import DUST, HALVES, empty, some_sets, whole
 
 HALF = (1, 2)
+SHARED = (3, {"b": ((1, "a", (1, 3)), (2, "b", (2, 3))), "a": ((0, "b", (1, 1)),)})
 
 
 def calls():
-    """Each function of sets, with what it may be handed, and whether what it tells is of the right kind."""
+    """Each function behind books, with what it may be handed, and whether what it tells is of the right kind."""
     found = []
     for base in (2, 3, 4):
         values = some_sets(5, bases=(base,)) + [empty(base), whole(base)]
@@ -35,6 +40,16 @@ def calls():
                 (limits, (one,), is_told_set), (kernel, (one,), is_told_set), (rank, (one,), is_number),
                 (how_many, (one,), is_count), (is_single, (one, HALF), is_truth), (single_of, (one,), is_point),
             ]
+    for function in (at_most, just_at):
+        for name, fraction in itertools.product("ab", ((0, 1), HALF, (5, 7))):
+            found.append((function, (SHARED, name, fraction), is_point))
+    for function in (mean, spread):
+        found += [(function, (SHARED, name), is_point) for name in "ab"]
+    found += [
+        (is_shared, (SHARED,), is_truth), (show_fraction, (HALF,), is_text), (show_book, (DUST,), is_text),
+        (show_set, (whole(3),), is_text), (read_fraction, ("1/2",), is_point),
+        (read_book, ("4\nx = -",), is_book), (read_set, ("3\n0 0 0",), is_told_set),
+    ]
     return found + [(set_of, (DUST, "x"), is_told_set), (set_of, (HALVES, "v"), is_told_set)]
 
 
@@ -61,6 +76,10 @@ def are_digits(told):
 def are_gaps(told):
     gaps = [gap for gap in told if gap is not None]
     return type(told) is list and all(type(gap) is tuple and are_points(gap) for gap in gaps)
+
+
+def is_text(told):
+    return type(told) is str
 
 
 def is_truth(told):
@@ -99,9 +118,9 @@ class TestHandedIn(unittest.TestCase):
                 self.assertEqual(function(*things), told)
                 self.assertEqual(repr(things), repr(ahead))
 
-    def test_every_function_of_sets_is_looked_at(self):
+    def test_every_function_behind_books_is_looked_at(self):
         names = {function.__name__ for function, _, _ in calls()}
-        self.assertEqual(len(names), 31)
+        self.assertEqual(len(names), 42)
 
 
 if __name__ == "__main__":

@@ -43,10 +43,27 @@ INTERFACE = {
         "limits": ["value"], "kernel": ["value"], "rank": ["value"], "how_many": ["value"],
         "is_single": ["value", "fraction"], "single_of": ["value"],
     },
+    "shares": {
+        "is_shared": ["thing"], "at_most": ["book", "name", "fraction"], "just_at": ["book", "name", "fraction"],
+        "mean": ["book", "name"], "spread": ["book", "name"],
+    },
+    "house": {"House": ["base"]},
+    "texts": {
+        "show_fraction": ["fraction"], "show_book": ["book"], "show_set": ["value"], "read_fraction": ["text"],
+        "read_book": ["text"], "read_set": ["text"],
+    },
+    "desk": {"Desk": []},
 }
 # the methods of each class that have landed
 METHODS = {
     "gaps": {"Gaps": {"more": [], "told": []}},
+    "house": {
+        "House": {
+            "tell": ["name", "form"], "drop": ["name"], "value": ["name"], "form": ["name"], "hangers": ["name"],
+            "names": [], "groups": [], "why": ["name", "fraction"], "mark": [], "back": ["number"],
+        },
+    },
+    "desk": {"Desk": {"say": ["row"]}},
 }
 
 
