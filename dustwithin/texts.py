@@ -57,9 +57,9 @@ def read_book(text):
     rows = {}
     last = ""
     for place, line in enumerate(lines[1:], start=1):
-        name, sign, written = line.partition(" = ")
+        name, _, written = line.partition(" = ")
         row = _row_by(base, written)
-        if not sign or not is_name(name) or name <= last or row is None or len(rows) == MOST_NAMES:
+        if not is_name(name) or name <= last or row is None or len(rows) == MOST_NAMES:
             raise NoText(place)
         rows[name] = row
         last = name
